@@ -1,0 +1,1 @@
+"""Markersplice: joining strips at paired markers."""
