@@ -115,7 +115,7 @@ def without_markers(row, numbers):
 
 
 def clean_row(row):
-    """Return a row, as a list, in which each name that occurs has its first two markers left."""
+    """Return a row, as a list, in which each name has its first two markers, or none if it has one."""
     check_row(row)
     places = places_by_name(row)
     unusable = []

@@ -189,3 +189,10 @@ class Case(unittest.TestCase):
         self.assertIs(type(caught.exception), error)
         self.assertIs(type(caught.exception.total), int)
         self.assertEqual(caught.exception.total, total)
+
+    def assert_equality(self, one, other, expected):
+        """Ask for the answer of == and of != from both sides."""
+        self.assertIs(one == other, expected)
+        self.assertIs(other == one, expected)
+        self.assertIs(one != other, not expected)
+        self.assertIs(other != one, not expected)

@@ -227,12 +227,6 @@ def flip_turned(row):
 
 
 class Equality(Case):
-    def check(self, one, other, expected):
-        self.assertIs(one == other, expected)
-        self.assertIs(other == one, expected)
-        self.assertIs(one != other, not expected)
-        self.assertIs(other != one, not expected)
-
     def test_rings_that_are_nearly_equal(self):
         pairs = [
             ([""], ["a"]), (["ab"], ["aB"]), (["abc"], ["acb"]), (["abc"], ["ABC"]), (["abc"], ["cba"]),
@@ -249,7 +243,7 @@ class Equality(Case):
         ]
         for one, other in pairs:
             self.assertNotIn(list(other), ring_readings(one))
-            self.check(Ring(one), Ring(other), False)
+            self.assert_equality(Ring(one), Ring(other), False)
             self.assertNotEqual(Ring(one).row(), Ring(other).row())
             self.assertNotEqual(str(Ring(one)), str(Ring(other)))
 
@@ -263,13 +257,13 @@ class Equality(Case):
                     changed[index] = row[index] + "q" if rng.randrange(2) else row[index].swapcase()
                 else:
                     changed[index] = (row[index][0], not row[index][1])
-                self.check(Ring(row), Ring(changed), changed in ring_readings(row))
+                self.assert_equality(Ring(row), Ring(changed), changed in ring_readings(row))
 
     def test_all_small_rings(self):
         readings = [row for row in sample_readings() if len(row) <= 4][:40]
         for one in readings:
             for other in readings:
-                self.check(Ring(one), Ring(other), other in ring_readings(one))
+                self.assert_equality(Ring(one), Ring(other), other in ring_readings(one))
 
     def test_values_of_other_kinds(self):
         for row in (["a"], [""], ["", P], ["b", P, "A", Q]):
@@ -277,9 +271,9 @@ class Equality(Case):
             for other in [row, tuple(row), ring.row(), str(ring), repr(ring), Strip(["a"]), Strip([""]),
                           Strip(["", P, "", P, ""])] + any_values():
                 if type(other) is Ring:
-                    self.check(ring, other, other.row() in ring_readings(row))
+                    self.assert_equality(ring, other, other.row() in ring_readings(row))
                 else:
-                    self.check(ring, other, False)
+                    self.assert_equality(ring, other, False)
 
 
 class Copies(Case):

@@ -371,16 +371,10 @@ class OtherNames(Case):
 
 
 class Equality(Case):
-    def check(self, one, other, expected):
-        self.assertIs(one == other, expected)
-        self.assertIs(other == one, expected)
-        self.assertIs(one != other, not expected)
-        self.assertIs(other != one, not expected)
-
     def test_equal_rows(self):
         for row in sample_strip_rows():
-            self.check(Strip(row), Strip(tuple(row)), True)
-            self.check(Strip(row), Strip(row).flipped().flipped(), True)
+            self.assert_equality(Strip(row), Strip(tuple(row)), True)
+            self.assert_equality(Strip(row), Strip(row).flipped().flipped(), True)
 
     def test_rows_that_differ_in_one_item(self):
         row = ["a", P, "b", Q, "c", P, "D", ("q", True), ""]
@@ -397,19 +391,19 @@ class Equality(Case):
             ["abc", P, "", P, "D"], ["abcD"], [""],
         ]
         for other in others:
-            self.check(Strip(row), Strip(other), False)
+            self.assert_equality(Strip(row), Strip(other), False)
 
     def test_all_sample_strips(self):
         rows = sample_strip_rows()[:40]
         for one in rows:
             for other in rows:
-                self.check(Strip(one), Strip(other), one == other)
+                self.assert_equality(Strip(one), Strip(other), one == other)
 
     def test_the_flipped_strip_is_equal_only_if_it_has_the_same_row(self):
         for row in sample_strip_rows():
-            self.check(Strip(row), Strip(row).flipped(), row == flipped_items(row))
+            self.assert_equality(Strip(row), Strip(row).flipped(), row == flipped_items(row))
         for row in (["aA"], [""], ["", P, "", ("p", False), ""], ["b", P, "Cc", ("p", False), "B"]):
-            self.check(Strip(row), Strip(row).flipped(), True)
+            self.assert_equality(Strip(row), Strip(row).flipped(), True)
 
     def test_values_of_other_kinds(self):
         for row in (["a"], [""], ["", P, "", P, ""], list(SAMPLE_ROW)):
@@ -417,9 +411,9 @@ class Equality(Case):
             for other in [row, tuple(row), str(strip), repr(strip), Ring(["a"]), Ring([""]),
                           Ring(["", P, "", P])] + any_values():
                 if type(other) is Strip:
-                    self.check(strip, other, strip.row() == other.row())
+                    self.assert_equality(strip, other, strip.row() == other.row())
                 else:
-                    self.check(strip, other, False)
+                    self.assert_equality(strip, other, False)
 
 
 class Texts(Case):
