@@ -1,6 +1,13 @@
-"""The words that write rows and ring readings as text. What they get is valid already."""
+"""The words that write rows and ring readings as text.
+
+What the functions get that write words is valid already; those that read words check them.
+"""
+
+from markersplice.rows import is_name, is_piece
 
 EMPTY_PIECE = "_"
+RING_START = "("
+RING_END = ")"
 
 
 def item_word(item):
@@ -21,4 +28,21 @@ def ring_words(row):
     words = row_words(row)
     if len(words) > 1:
         words = words[-1:] + words[:-1]
-    return ["(", *words, ")"]
+    return [RING_START, *words, RING_END]
+
+
+def is_piece_word(word):
+    """Return True if a word writes a piece."""
+    return word == EMPTY_PIECE or (len(word) > 0 and is_piece(word))
+
+
+def is_marker_word(word):
+    """Return True if a word writes a marker."""
+    return word[-1:] in ("+", "-") and is_name(word[:-1])
+
+
+def word_item(word):
+    """Return the piece or the marker that a word writes."""
+    if is_marker_word(word):
+        return (word[:-1], word[-1] == "+")
+    return "" if word == EMPTY_PIECE else word

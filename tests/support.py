@@ -6,7 +6,10 @@ The oracles are written as the document words them, not as the package does it.
 import random
 import unittest
 
-from markersplice.errors import InvalidPiece, NotApplicable, NothingToUndo
+from markersplice.crossings import CrossingTable
+from markersplice.errors import InvalidPiece, InvalidWord, NotApplicable, NothingToUndo
+from markersplice.joining import JoinedStrip
+from markersplice.operations import apply_op, available_ops
 from markersplice.strips import Ring, Strip
 
 # a and b cross, both enclose c, and d stands apart; a and c are direct, b and d inverted.
@@ -33,11 +36,14 @@ def any_values():
         (), ("",), ("a",), ("p",), ("p", True), ("p", False), ("P", True), ("p", 1), ("p", 0),
         ("p", None), ("p", "True"), ("", True), ("abcde", False), (True, "p"), ("p", True, True),
         ("p", [True]), (["p"], True), ("a", ("p", True), "b"),
-        ("loop", "p"), ("swap", "p", "q"),
+        ("loop", "p"), ("swap", "p", "q"), ["loop", "p"], [("loop", "p")], (("flip", "p"), ("loop", "q")),
+        ["p", "q"], ("p", "q"), ["p", "p"], (["a"], []), ([], {}, {}),
         {}, {"p": True}, {0: "a"}, {"a": ["b", ("p", True)]}, {("p", True): 1},
         deep, deep_tuple,
         Strip(["a"]), Strip(["", ("p", True), "", ("p", False), ""]),
-        Ring(["a"]), Ring(["", ("p", True)]),
+        Ring(["a"]), Ring(["", ("p", True)]), [Ring(["a"])], (["a"], [Ring(["a"])]),
+        CrossingTable([], []), CrossingTable(["p"], [[1]]), JoinedStrip(Strip(["a"]), []),
+        JoinedStrip(Strip(["", ("p", True), "", ("p", True), ""]), ["p"]),
         InvalidPiece("a"), NotApplicable(("loop", "p"), None), NothingToUndo(),
     ]
 
@@ -60,6 +66,12 @@ def looks_like_piece(value):
 def looks_like_marker(value):
     return (type(value) is tuple and len(value) == 2 and looks_like_name(value[0])
             and type(value[1]) is bool)
+
+
+def looks_like_row(value):
+    return (type(value) in (list, tuple) and len(value) % 2 == 1
+            and all(looks_like_piece(item) for item in value[::2])
+            and all(looks_like_marker(item) for item in value[1::2]))
 
 
 def flipped_letters(piece):
@@ -137,6 +149,20 @@ def sample_strip_rows():
     return rows
 
 
+def mixed_strip_rows():
+    """Rows of strips with few inverted names, so that every kind of operation occurs."""
+    rng = random.Random(44)
+    rows = [[""], ["aB"], list(SAMPLE_ROW)]
+    for total in (1, 2, 2, 3, 3, 4, 5, 6, 8, 10, 12):
+        for upright in (1, 2, 5, 100):
+            for _ in range(2):
+                row = sample_strip_row(rng, total)
+                for index in range(1, len(row), 2):
+                    row[index] = (row[index][0], rng.randrange(upright + 1) != 0)
+                rows.append(row)
+    return rows
+
+
 def ring_readings(row):
     """All readings of the ring of a reading, in both directions, as point 6 defines them."""
     if len(row) == 1:
@@ -169,10 +195,140 @@ def smallest_reading(row):
     return sorted(ring_readings(row), key=reading_text)[0]
 
 
+def no_strips():
+    """Values of every kind except strips."""
+    return [value for value in any_values() if type(value) is not Strip]
+
+
+def places_in(row, name):
+    """The numbers of the markers of a name in a row."""
+    return tuple(number for number, marker in enumerate(row[1::2]) if marker[0] == name)
+
+
+def names_in(row):
+    """The names of a row, ordered by first marker."""
+    names = []
+    for name, _ in row[1::2]:
+        if name not in names:
+            names.append(name)
+    return names
+
+
+def cross_in(row, one, other):
+    """Whether one, other, one, other or other, one, other, one is the order of the places."""
+    order = [name for name, _ in row[1::2] if name in (one, other)]
+    return order in ([one, other, one, other], [other, one, other, one]) and one != other
+
+
+def inverted_in(row, name):
+    """Whether the two markers of a name have different orientations."""
+    return len({upright for other, upright in row[1::2] if other == name}) == 2
+
+
+def renamed_row(row, new):
+    """A row with other names, given as a dict from the old to the new ones."""
+    return [item if isinstance(item, str) else (new[item[0]], item[1]) for item in row]
+
+
+def other_names(rng, names):
+    """A dict from each name to another name."""
+    others = name_list(16)
+    rng.shuffle(others)
+    return dict(zip(names, others))
+
+
+def subsets(rng, names, most=12):
+    """Some sets of names, each in any order; the empty one and all names are among them."""
+    chosen = [[], list(names)]
+    for _ in range(most):
+        chosen.append(rng.sample(names, rng.randrange(len(names) + 1)))
+    return chosen
+
+
+def complete_run(rng, strip):
+    """Any operations that remove all markers, with the strip and the rings after each of them.
+
+    A list of tuples of the operations so far, the strip and the rings.
+    """
+    ops, rings = [], []
+    states = [([], strip, [])]
+    while len(strip):
+        op = rng.choice(available_ops(strip))
+        strip, ring = apply_op(strip, op)
+        ops = ops + [op]
+        rings = rings + ([] if ring is None else [ring])
+        states.append((ops, strip, rings))
+    return states
+
+
+def removed_by(ops):
+    """The names that operations remove."""
+    return [name for op in ops for name in op[1:]]
+
+
+class PlainJoin:
+    """A row joined at names, by a walk from piece end to piece end as point 5 words it.
+
+    Ends are tuples of "left" or "right" and the number of a piece. What the walk finds is kept
+    as paths, rows (of part 0, then readings of the rings), part_of and edges.
+    """
+
+    def __init__(self, row, names):
+        self.source = list(row)
+        self.pieces = row[::2]
+        self.markers = row[1::2]
+        self.next = {}
+        for number, (name, _) in enumerate(self.markers):
+            if name not in names:
+                self.next["right", number] = (("left", number + 1), number)
+                self.next["left", number + 1] = (("right", number), number)
+        for name in names:
+            first, second = places_in(row, name)
+            for one, other in ((self.before(first), self.after(second)), (self.before(second), self.after(first))):
+                self.next[one] = (other, None)
+                self.next[other] = (one, None)
+        self.paths, self.rows = [], []
+        self.part_of = {}
+        for piece in range(len(self.pieces)):
+            if piece not in self.part_of:
+                self.walk(piece)
+        self.edges = {name: tuple(self.part_of[self.before(place)[1]] for place in places_in(row, name))
+                      for name in names_in(row) if name in names}
+
+    def before(self, number):
+        return ("right", number) if self.markers[number][1] else ("left", number + 1)
+
+    def after(self, number):
+        return ("left", number + 1) if self.markers[number][1] else ("right", number)
+
+    def walk(self, piece):
+        """Walk from the left end of a piece until the part ends or closes."""
+        path, items = [], [""]
+        end = ("left", piece)
+        while True:
+            side, number = end
+            path.append((number, side == "right"))
+            self.part_of[number] = len(self.paths)
+            letters = self.pieces[number]
+            items[-1] += letters if side == "left" else flipped_letters(letters)
+            leaving = ("right" if side == "left" else "left", number)
+            if leaving not in self.next:
+                break
+            end, marker = self.next[leaving]
+            if marker is not None:
+                name, upright = self.markers[marker]
+                items.extend([(name, upright if leaving[0] == "right" else not upright), ""])
+            if end == ("left", piece):
+                items[0] = items.pop() + items[0] if len(items) > 1 else items[0]
+                break
+        self.paths.append(path)
+        self.rows.append(items)
+
+
 class Case(unittest.TestCase):
     """A test case that can ask for an error of an exact class with the very object that was passed."""
 
-    def assert_raises(self, error, value, call, *args, attribute="value", **named):
+    def assert_raises(self, error, value, call, /, *args, attribute="value", **named):
         try:
             call(*args, **named)
         except Exception as caught:
@@ -189,6 +345,23 @@ class Case(unittest.TestCase):
         self.assertIs(type(caught.exception), error)
         self.assertIs(type(caught.exception.total), int)
         self.assertEqual(caught.exception.total, total)
+
+    def assert_word(self, position, call, text):
+        """Ask for InvalidWord with this index, or tuple of two indices, of exact integers."""
+        with self.assertRaises(InvalidWord, msg=repr(text)) as caught:
+            call(text)
+        self.assertIs(type(caught.exception), InvalidWord)
+        found = caught.exception.position
+        self.assertEqual(found, position, repr(text))
+        self.assertIs(type(found), type(position))
+        for number in found if isinstance(found, tuple) else [found]:
+            self.assertIs(type(number), int)
+
+    def assert_same_rings(self, rings, expected):
+        """Ask for the same rings, each the same number of times, in any order."""
+        for ring in rings:
+            self.assertIs(type(ring), Ring)
+        self.assertEqual(sorted(str(ring) for ring in rings), sorted(str(ring) for ring in expected))
 
     def assert_equality(self, one, other, expected):
         """Ask for the answer of == and of != from both sides."""

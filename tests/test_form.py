@@ -24,6 +24,33 @@ INTERFACE = {
         "Ring.__init__": "self row", "Ring.row": "self", "Ring.names": "self", "Ring.letter_count": "self",
         "Ring.__len__": "self", "Ring.__eq__": "self other", "Ring.__str__": "self", "Ring.__repr__": "self",
     },
+    "texts": {
+        "row_text": "row", "ring_text": "row", "parse_row": "text", "parse_strip": "text", "parse_ring": "text",
+        "complete_strip": "text", "parts_text": "row rings", "parse_parts": "text",
+    },
+    "operations": {
+        "is_op": "value", "op_names": "op", "blocker": "strip op", "is_blocker": "strip op value",
+        "available_ops": "strip", "apply_op": "strip op", "apply_all": "strip ops",
+        "applicable_count": "strip ops", "removes_all": "strip value",
+    },
+    "crossings": {
+        "CrossingTable.__init__": "self names rows", "CrossingTable.names": "self", "CrossingTable.rows": "self",
+        "CrossingTable.entry": "self one other", "CrossingTable.neighbors": "self name",
+        "CrossingTable.components": "self", "CrossingTable.subtable": "self names",
+        "CrossingTable.__len__": "self", "CrossingTable.__eq__": "self other", "CrossingTable.__str__": "self",
+        "CrossingTable.__repr__": "self", "CrossingTable.rank": "self", "CrossingTable.rank_certificate": "self",
+        "CrossingTable.is_rank_certificate": "self value", "CrossingTable.after": "self op",
+        "crossing_table": "strip", "ring_count_by_rank": "strip names",
+    },
+    "joining": {
+        "JoinedStrip.__init__": "self strip names", "JoinedStrip.strip": "self", "JoinedStrip.names": "self",
+        "JoinedStrip.__len__": "self", "JoinedStrip.__eq__": "self other", "JoinedStrip.__str__": "self",
+        "JoinedStrip.__repr__": "self", "JoinedStrip.path": "self part", "JoinedStrip.part_of": "self piece",
+        "JoinedStrip.row": "self", "JoinedStrip.rings": "self", "JoinedStrip.remaining": "self",
+        "JoinedStrip.edge": "self name", "JoinedStrip.with_name": "self name",
+        "JoinedStrip.without_name": "self name", "join_all": "strip", "edges": "strip",
+        "is_result": "strip names value",
+    },
 }
 
 

@@ -11,33 +11,13 @@ from markersplice.errors import (
 from markersplice.rows import clean_row, flip_row
 from markersplice.strips import Ring, Strip
 from support import (
-    SAMPLE_ROW, Case, any_values, flipped_items, item_text, looks_like_name, name_list, sample_rows,
-    sample_strip_row, sample_strip_rows,
+    SAMPLE_ROW, Case, any_values, cross_in, flipped_items, item_text, looks_like_name, name_list, names_in,
+    places_in, sample_rows, sample_strip_row, sample_strip_rows,
 )
 
 P = ("p", True)
 Q = ("q", False)
 NAME_METHODS = ("places", "orientations", "is_direct", "names_between")
-
-
-def places_in(row, name):
-    """The numbers of the markers of a name in a row."""
-    return tuple(number for number, marker in enumerate(row[1::2]) if marker[0] == name)
-
-
-def names_in(row):
-    """The names of a row, ordered by first marker."""
-    names = []
-    for name, _ in row[1::2]:
-        if name not in names:
-            names.append(name)
-    return names
-
-
-def cross_in(row, one, other):
-    """Whether one, other, one, other or other, one, other, one is the order of the places."""
-    order = [name for name, _ in row[1::2] if name in (one, other)]
-    return order in ([one, other, one, other], [other, one, other, one]) and one != other
 
 
 def facts(strip):
