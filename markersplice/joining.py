@@ -4,9 +4,7 @@ from markersplice.checks import check_known, check_names, check_strip, is_ring_l
 from markersplice.errors import DuplicateName, InvalidNumber, UnknownName, UnknownPart, Unreachable
 from markersplice.rows import is_integer, is_row
 from markersplice.strips import Ring, Strip
-from markersplice.walks import (
-    end_after, end_before, joint_links, marker_links, read_ring, read_row, walk_from,
-)
+from markersplice.walks import ends_before, links_of, read_ring, read_row, ring_walks, walk_from
 
 
 class JoinedStrip:
@@ -18,8 +16,10 @@ class JoinedStrip:
         check_known(names, strip.names())
         self._strip = strip
         self._names = [name for name in strip.names() if name in names]
-        self._links = _links_of(strip, self._names)
-        self._walks = _walks_of(self._links, len(strip.pieces()))
+        self._markers = list(enumerate(strip.row()[1::2]))
+        self._links = links_of(self._markers, self._names)
+        walks = [walk_from(0, self._links)]
+        self._walks = walks + ring_walks(walks, self._links, len(strip.pieces()))
         self._parts = {end // 2: part for part, ends in enumerate(self._walks) for end in ends}
 
     def strip(self):
@@ -61,7 +61,7 @@ class JoinedStrip:
     def edge(self, name):
         """Return the numbers of the parts that contain the two joints of a joined name."""
         self._check_joined(name)
-        first, second = _ends_before(self._strip, name)
+        first, second = ends_before(self._markers, name)
         return (self._parts[first // 2], self._parts[second // 2])
 
     def with_name(self, name):
@@ -116,43 +116,3 @@ def is_result(strip, names, value):
     if not is_row(row) or list(row) != joined.row() or not is_ring_list(rings):
         return False
     return sorted([str(ring) for ring in rings]) == sorted([str(ring) for ring in joined.rings()])
-
-
-def _links_of(strip, names):
-    """Return the links between the ends of the strip joined at these names."""
-    links = {}
-    for number, marker in enumerate(strip.row()[1::2]):
-        if marker[0] not in names:
-            links.update(marker_links(number, marker))
-    for name in names:
-        # The end before one marker is joined to the end after the other one.
-        before = _ends_before(strip, name)
-        after = _ends_after(strip, name)
-        links.update(joint_links(before[0], after[1]))
-        links.update(joint_links(before[1], after[0]))
-    return links
-
-
-def _ends_before(strip, name):
-    """Return the ends before the two markers of a name."""
-    return [end_before(place, upright)
-            for place, upright in zip(strip.places(name), strip.orientations(name))]
-
-
-def _ends_after(strip, name):
-    """Return the ends after the two markers of a name."""
-    return [end_after(place, upright)
-            for place, upright in zip(strip.places(name), strip.orientations(name))]
-
-
-def _walks_of(links, total):
-    """Return the walks along all parts: first from the left end of piece 0, then along the rings."""
-    walks = [walk_from(0, links)]
-    reached = [end // 2 for end in walks[0]]
-    for piece in range(total):
-        if piece not in reached:
-            # A marker before this piece would lead to a lower piece, so the walk begins at a joint.
-            ends = walk_from(2 * piece, links)
-            walks.append(ends)
-            reached.extend([end // 2 for end in ends])
-    return walks

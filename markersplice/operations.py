@@ -2,7 +2,7 @@
 
 from markersplice.checks import check_known, check_strip, is_name_list
 from markersplice.errors import InvalidOperation, NotApplicable
-from markersplice.rows import flip_row
+from markersplice.rows import concatenated, flip_row
 from markersplice.strips import Ring, Strip
 
 KINDS = ("loop", "flip", "swap")
@@ -39,13 +39,18 @@ def is_blocker(strip, op, value):
 def available_ops(strip):
     """Return all applicable operations, ordered by the first place of their first name."""
     check_strip(strip)
-    names = strip.names()
-    candidates = []
-    for index, name in enumerate(names):
-        candidates.extend([("loop", name), ("flip", name)])
+    direct = [name for name in strip.names() if strip.is_direct(name)]
+    found = []
+    for name in strip.names():
+        if name not in direct:
+            found.append(("flip", name))
+            continue
+        if len(strip.names_between(name)) == 0:
+            found.append(("loop", name))
         # Only the swaps with a later second name can be applicable.
-        candidates.extend([("swap", name, other) for other in names[index + 1:]])
-    return [op for op in candidates if len(_blockers(strip, op)) == 0]
+        later = direct[direct.index(name) + 1:]
+        found.extend([("swap", name, other) for other in later if strip.crosses(name, other)])
+    return found
 
 
 def apply_op(strip, op):
@@ -120,12 +125,12 @@ def _applied(strip, op):
     sections = _sections(strip.row(), sorted(places))
     if op[0] == "loop":
         left, ring, right = sections
-        return (_strip_of([left, right]), Ring(ring))
+        return (Strip(concatenated([left, right])), Ring(ring))
     if op[0] == "flip":
         left, middle, right = sections
-        return (_strip_of([left, flip_row(middle), right]), None)
+        return (Strip(concatenated([left, flip_row(middle), right])), None)
     left, first, middle, second, right = sections
-    return (_strip_of([left, second, middle, first, right]), None)
+    return (Strip(concatenated([left, second, middle, first, right])), None)
 
 
 def _sections(row, places):
@@ -137,15 +142,6 @@ def _sections(row, places):
         start = 2 * place + 2
     sections.append(row[start:])
     return sections
-
-
-def _strip_of(sections):
-    """Return the strip of rows one after another, with the pieces where two of them meet merged."""
-    row = [""]
-    for section in sections:
-        row[-1] = row[-1] + section[0]
-        row.extend(section[1:])
-    return Strip(row)
 
 
 def _applied_while_possible(strip, items):

@@ -95,6 +95,15 @@ def flip_row(row):
     return flipped
 
 
+def concatenated(rows):
+    """Return rows one after another as one row, with the pieces where two of them meet merged."""
+    whole = [""]
+    for row in rows:
+        whole[-1] = whole[-1] + row[0]
+        whole.extend(row[1:])
+    return whole
+
+
 def places_by_name(row):
     """Return a dict from each name of a row, by first marker, to the list of its marker numbers."""
     places = {}

@@ -30,6 +30,31 @@ def joint_links(one, other):
     return {one: (other, None), other: (one, None)}
 
 
+def ends_before(markers, name):
+    """Return the ends before the markers of a name, out of tuples of a number and a marker."""
+    return [end_before(number, upright) for number, (other, upright) in markers if other == name]
+
+
+def ends_after(markers, name):
+    """Return the ends after the markers of a name, out of tuples of a number and a marker."""
+    return [end_after(number, upright) for number, (other, upright) in markers if other == name]
+
+
+def links_of(markers, names):
+    """Return all links if markers, as tuples of a number and a marker, are joined at these names."""
+    links = {}
+    for number, marker in markers:
+        if marker[0] not in names:
+            links.update(marker_links(number, marker))
+    for name in names:
+        # The end before one marker is joined to the end after the other one.
+        before = ends_before(markers, name)
+        after = ends_after(markers, name)
+        links.update(joint_links(before[0], after[1]))
+        links.update(joint_links(before[1], after[0]))
+    return links
+
+
 def walk_from(start, links):
     """Return the ends at which pieces are entered, from this one on, until there is no new one."""
     ends = [start]
@@ -38,6 +63,18 @@ def walk_from(start, links):
         ends.append(link[0])
         link = links.get(link[0] ^ 1)
     return ends
+
+
+def ring_walks(walks, links, total):
+    """Return walks along the rings, to which all of so many pieces belong that these walks do not reach."""
+    reached = [end // 2 for ends in walks for end in ends]
+    rings = []
+    for piece in range(total):
+        if piece not in reached:
+            # A marker before this piece would lead to a lower piece, so the walk begins at a joint.
+            rings.append(walk_from(2 * piece, links))
+            reached.extend([end // 2 for end in rings[-1]])
+    return rings
 
 
 def read_row(ends, links, pieces):

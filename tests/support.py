@@ -3,6 +3,7 @@
 The oracles are written as the document words them, not as the package does it.
 """
 
+import itertools
 import random
 import unittest
 
@@ -200,6 +201,19 @@ def no_strips():
     return [value for value in any_values() if type(value) is not Strip]
 
 
+def no_name_lists():
+    """Values of every kind except lists and tuples of distinct names."""
+    wrong = [["a", "a"], ("a", "b", "a"), ["z", "z"], "ab", {"a": 1}, ["a", "A"], ["z", 1], ("a", ["b"]), [""],
+             ["a", True], [("a", "b")]]
+    return [value for value in any_values() + wrong if not looks_like_names(value)]
+
+
+def looks_like_names(value):
+    """Whether a value is a list or tuple of distinct names."""
+    right = type(value) in (list, tuple) and all(looks_like_name(item) for item in value)
+    return right and len(set(value)) == len(value)
+
+
 def places_in(row, name):
     """The numbers of the markers of a name in a row."""
     return tuple(number for number, marker in enumerate(row[1::2]) if marker[0] == name)
@@ -237,6 +251,34 @@ def other_names(rng, names):
     return dict(zip(names, others))
 
 
+def small_rows():
+    """Rows of strips with zero to six names, with operations of every kind."""
+    rows = [row for row in mixed_strip_rows() + sample_strip_rows()[::2] if len(row) <= 25]
+    return rows + [shaped_row(shape, total) for shape in SHAPES for total in range(7)]
+
+
+SHAPES = ("apart", "nested", "crossing", "turned apart", "turned nested", "turned crossing")
+
+
+def shaped_row(shape, total):
+    """A row with so many names that are all apart, nested in each other or crossing each other.
+
+    All names are direct or, with the word "turned", inverted.
+    """
+    names = name_list(total)
+    order = {"apart": [name for name in names for _ in range(2)], "nested": names + names[::-1],
+             "crossing": names + names}[shape.split(" ")[-1]]
+    row = ["a"]
+    for index, name in enumerate(order):
+        row.extend([(name, not shape.startswith("turned") or name not in order[:index]), "bC"[:index % 3]])
+    return row
+
+
+def every_subset(names):
+    """All sets of some names, as lists in their order."""
+    return [list(chosen) for total in range(len(names) + 1) for chosen in itertools.combinations(names, total)]
+
+
 def subsets(rng, names, most=12):
     """Some sets of names, each in any order; the empty one and all names are among them."""
     chosen = [[], list(names)]
@@ -261,9 +303,101 @@ def complete_run(rng, strip):
     return states
 
 
+def every_sequence(strip):
+    """Every sequence of operations that are applicable one after another, with the strip that it leaves."""
+    yield [], strip
+    for op in available_ops(strip):
+        left, _ = apply_op(strip, op)
+        for ops, last in every_sequence(left):
+            yield [op] + ops, last
+
+
+def complete_sequences(strip):
+    """Every sequence of operations that removes all markers."""
+    return [ops for ops, left in every_sequence(strip) if len(left) == 0]
+
+
+def left_by(strip, value):
+    """The strip that the operations of a value leave, or None if it is not a list or tuple of operations
+    of which each is applicable to the result of the one before it."""
+    if type(value) not in (list, tuple):
+        return None
+    for op in value:
+        if not looks_like_op(op) or not set(op[1:]) <= set(strip.names()) or blockers_in(strip.row(), op):
+            return None
+        strip, _ = apply_op(strip, op)
+    return strip
+
+
 def removed_by(ops):
     """The names that operations remove."""
     return [name for op in ops for name in op[1:]]
+
+
+def looks_like_op(value):
+    """Whether a value is an operation, as point 41 words it."""
+    if type(value) is not tuple or len(value) not in (2, 3) or type(value[0]) is not str:
+        return False
+    if not all(looks_like_name(name) for name in value[1:]):
+        return False
+    if len(value) == 2:
+        return value[0] in ("loop", "flip")
+    return value[0] == "swap" and value[1] != value[2]
+
+
+def nearly_ops():
+    """Operations, and what is nearly one."""
+    found = []
+    for kind in ("loop", "flip", "swap", "Loop", "loops", "", "lo", "join", None, True, 0, ["loop"], ("loop",), {}):
+        for names in ((), ("p",), ("p", "q"), ("q", "p"), ("p", "p"), ("p", "q", "r"), ("p", None), ("P",), ("",),
+                      ("abcde",), ("abcd",), ("p", "Q"), (["p"],), (("p", "q"),), (1,), (True, "q"), ("p+",), ({}, [])):
+            found.append((kind, *names))
+            found.append([kind, *names])
+    return found + [(("loop", "p"),), ("p", "loop"), ("p", "swap", "q")]
+
+
+def ops_of(names):
+    """All operations with these names, in both orders of swaps."""
+    pairs = itertools.permutations(names, 2)
+    return [(kind, name) for name in names for kind in ("loop", "flip")] + [("swap", *pair) for pair in pairs]
+
+
+def between_in(row, name):
+    low, high = places_in(row, name)
+    return [marker[0] for marker in row[1::2][low + 1:high]]
+
+
+def blockers_in(row, op):
+    """All blockers of an operation, the first that applies first, as point 43 words it."""
+    found = []
+    if op[0] == "flip":
+        return [] if inverted_in(row, op[1]) else [("direct", op[1])]
+    for name in op[1:]:
+        if inverted_in(row, name):
+            found.append(("inverted", name))
+    if op[0] == "loop":
+        return found + [("between", other) for other in between_in(row, op[1])]
+    if not cross_in(row, op[1], op[2]):
+        found.append(("uncrossed", op[1], op[2]))
+    if places_in(row, op[1])[0] > places_in(row, op[2])[0]:
+        found.append(("order", op[1], op[2]))
+    return found
+
+
+def changed_sequences(rng, ops, names):
+    """Sequences that differ from the given one by one change."""
+    values = any_values() + nearly_ops() + ops_of(names[:4])
+    at = rng.randrange(len(ops) + 1)
+    new = rng.choice(values)
+    found = [ops[:at] + [new] + ops[at:], ops + [new], ops[:at] + ops[at + 1:]]
+    if at < len(ops):
+        other = rng.randrange(len(ops))
+        exchanged = list(ops)
+        exchanged[at], exchanged[other] = ops[other], ops[at]
+        kind, *old = ops[at]
+        found += [exchanged, ops[:at + 1] + ops[at:]]
+        found += [ops[:at] + [item] + ops[at + 1:] for item in (new, list(ops[at]), (kind, *old[::-1]))]
+    return found
 
 
 class PlainJoin:
@@ -323,6 +457,14 @@ class PlainJoin:
                 break
         self.paths.append(path)
         self.rows.append(items)
+
+
+def first_kept(plain):
+    """What Unreachable tells of a plain join, or None if no ring has a marker."""
+    for number, row in enumerate(plain.rows[1:], 1):
+        if len(row) > 1:
+            return (number, smallest_reading(row)[-1][0])
+    return None
 
 
 class Case(unittest.TestCase):

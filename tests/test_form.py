@@ -1,6 +1,7 @@
 """The interface as DOC.md lists it, and the plainest of the rules of LANGUAGE.md."""
 
 import ast
+import builtins
 import importlib
 import inspect
 import pathlib
@@ -51,6 +52,21 @@ INTERFACE = {
         "JoinedStrip.without_name": "self name", "join_all": "strip", "edges": "strip",
         "is_result": "strip names value",
     },
+    "removal": {
+        "is_removable": "strip names", "ops_for": "strip names", "removes_exactly": "strip names value",
+        "is_blocking_ring": "strip names value", "removable_sets": "strip", "sequence_counts": "strip",
+        "first_names": "strip", "last_names": "strip", "ops_leaving": "strip one other",
+        "ops_via": "strip names more",
+    },
+    "trees": {
+        "can_loop": "strip name", "must_loop": "strip name", "loop_sets": "strip", "loop_set_count": "strip",
+        "loop_certificate": "strip names", "is_loop_certificate": "strip names value",
+        "can_make_ring": "strip name ring", "ring_certificate": "strip name ring",
+        "is_ring_certificate": "strip name ring value",
+    },
+    "kinds": {
+        "suffices": "strip kinds", "kinds_certificate": "strip kinds", "is_kinds_certificate": "strip kinds value",
+    },
 }
 
 
@@ -72,12 +88,31 @@ def defined(tree):
             for inner in node.body:
                 if isinstance(inner, ast.FunctionDef):
                     found[node.name + "." + inner.name] = inner
-    return {name: " ".join(arg.arg for arg in node.args.args) for name, node in found.items()}
+    return {name: parameters_of(node) for name, node in found.items()}
+
+
+def parameters_of(node):
+    """The names of the parameters of a function, those that are passed by keyword behind a star."""
+    named = [arg.arg for arg in node.args.kwonlyargs]
+    return " ".join([arg.arg for arg in node.args.args] + (["*", *named] if named else []))
 
 
 def is_operator(name):
     """Whether a method is used by a sign or a builtin, so that its parameters are free."""
     return name.endswith("__") and not name.endswith("__init__")
+
+
+def top_names(tree):
+    """The names of the classes and of the imports of a file."""
+    names = {node.name for node in tree.body if isinstance(node, ast.ClassDef)}
+    return names | {alias.name for node in tree.body if isinstance(node, ast.ImportFrom) for alias in node.names}
+
+
+def local_names(tree):
+    """The names that the functions of a file give to parameters, variables and nested functions."""
+    names = {node.arg for node in ast.walk(tree) if isinstance(node, ast.arg)}
+    names |= {node.id for node in ast.walk(tree) if isinstance(node, ast.Name) and isinstance(node.ctx, ast.Store)}
+    return names | {node.name for node in ast.walk(tree) if isinstance(node, ast.ExceptHandler) and node.name}
 
 
 class Interface(unittest.TestCase):
@@ -97,7 +132,7 @@ class Interface(unittest.TestCase):
                 for part in name.split("."):
                     value = getattr(value, part)
                 if not is_operator(name):
-                    self.assertEqual(" ".join(inspect.signature(value).parameters), parameters)
+                    self.assertEqual(list(inspect.signature(value).parameters), parameters.replace("* ", "").split())
 
 
 class Rules(unittest.TestCase):
@@ -128,6 +163,29 @@ class Rules(unittest.TestCase):
                 docstring = (index == 0 and isinstance(node, ast.Expr) and isinstance(node.value, ast.Constant)
                              and isinstance(node.value.value, str))
                 self.assertTrue(docstring or isinstance(node, allowed), (path, node.lineno))
+
+    def test_a_name_means_one_thing(self):
+        for path in package_files():
+            tree = parsed(path)
+            self.assertEqual(top_names(tree) & local_names(tree), set(), path)
+            defs = {node.name for node in tree.body if isinstance(node, (ast.FunctionDef, ast.ClassDef))}
+            self.assertEqual((defs | local_names(tree)) & set(dir(builtins)), set(), path)
+            bound = [node.name for node in tree.body if isinstance(node, (ast.FunctionDef, ast.ClassDef))]
+            bound += [alias.name for node in tree.body if isinstance(node, ast.ImportFrom) for alias in node.names]
+            bound += [node.targets[0].id for node in tree.body if isinstance(node, ast.Assign)]
+            self.assertEqual(len(bound), len(set(bound)), path)
+
+    def test_only_the_listed_builtins_and_words(self):
+        listed = {"len", "range", "enumerate", "zip", "min", "max", "sum", "abs", "sorted", "reversed", "int", "str",
+                  "bool", "list", "tuple", "dict", "set", "isinstance", "ord", "repr", "any", "all", "ValueError",
+                  "KeyError", "LookupError"}
+        for path in package_files():
+            for node in ast.walk(parsed(path)):
+                if isinstance(node, ast.Name) and node.id in dir(builtins):
+                    self.assertIn(node.id, listed, path)
+                if isinstance(node, ast.Constant) and isinstance(node.value, str):
+                    self.assertNotIn("%", node.value, path)
+                self.assertNotIsInstance(node, (ast.GeneratorExp, ast.Global, ast.Nonlocal, ast.Delete), path)
 
     def test_imports_name_the_file_that_defines(self):
         for path in package_files():

@@ -11,9 +11,9 @@ from markersplice.joining import JoinedStrip, edges, is_result, join_all
 from markersplice.operations import apply_all
 from markersplice.strips import Ring, Strip
 from support import (
-    SAMPLE_ROW, Case, PlainJoin, any_values, complete_run, flipped_items, looks_like_name, looks_like_row,
-    mixed_strip_rows, name_list, names_in, no_strips, other_names, removed_by, renamed_row, ring_readings,
-    sample_strip_rows, smallest_reading, subsets,
+    SAMPLE_ROW, Case, PlainJoin, any_values, complete_run, first_kept, flipped_items, looks_like_row,
+    mixed_strip_rows, name_list, names_in, no_name_lists, no_strips, other_names, removed_by, renamed_row,
+    ring_readings, sample_strip_rows, subsets,
 )
 
 P = ("p", True)
@@ -31,14 +31,6 @@ def joins(seed):
     for row in some_rows():
         for names in subsets(rng, names_in(row), 6):
             yield row, names
-
-
-def first_kept(plain):
-    """What Unreachable tells of a plain join, or None if no ring has a marker."""
-    for number, row in enumerate(plain.rows[1:], 1):
-        if len(row) > 1:
-            return (number, smallest_reading(row)[-1][0])
-    return None
 
 
 def told(joined):
@@ -116,13 +108,10 @@ class Creating(Case):
 
     def test_no_names(self):
         strip = Strip(SAMPLE_ROW)
-        wrong = [["a", "a"], ("a", "b", "a"), ["z", "z"], "ab", {"a": 1}, ["a", "A"], ["z", 1], ("a", ["b"]), [""]]
-        for value in any_values() + wrong:
-            right = type(value) in (list, tuple) and all(looks_like_name(item) for item in value)
-            if not right or len(set(value)) != len(value):
-                self.assert_raises(InvalidNames, value, JoinedStrip, strip, value)
-                self.assert_raises(InvalidNames, value, JoinedStrip, names=value, strip=strip)
-                self.assert_raises(InvalidNames, value, is_result, strip, value, (["a"], []))
+        for value in no_name_lists():
+            self.assert_raises(InvalidNames, value, JoinedStrip, strip, value)
+            self.assert_raises(InvalidNames, value, JoinedStrip, names=value, strip=strip)
+            self.assert_raises(InvalidNames, value, is_result, strip, value, (["a"], []))
 
     def test_unknown_names(self):
         strip = Strip(SAMPLE_ROW)

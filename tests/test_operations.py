@@ -10,64 +10,14 @@ from markersplice.operations import (
 )
 from markersplice.strips import Ring, Strip
 from support import (
-    SAMPLE_ROW, Case, PlainJoin, any_values, complete_run, cross_in, flipped_items, inverted_in, looks_like_name,
-    mixed_strip_rows, name_list, names_in, no_strips, other_names, places_in, removed_by, renamed_row,
-    sample_strip_rows,
+    SAMPLE_ROW, Case, PlainJoin, any_values, blockers_in, changed_sequences, complete_run, flipped_items,
+    looks_like_op, mixed_strip_rows, name_list, names_in, nearly_ops, no_strips, ops_of, other_names, removed_by,
+    renamed_row, sample_strip_rows,
 )
 
 P = ("p", True)
 Q = ("q", True)
 R = ("r", True)
-
-
-def looks_like_op(value):
-    """Whether a value is an operation, as point 41 words it."""
-    if type(value) is not tuple or len(value) not in (2, 3) or type(value[0]) is not str:
-        return False
-    if not all(looks_like_name(name) for name in value[1:]):
-        return False
-    if len(value) == 2:
-        return value[0] in ("loop", "flip")
-    return value[0] == "swap" and value[1] != value[2]
-
-
-def nearly_ops():
-    """Operations, and what is nearly one."""
-    found = []
-    for kind in ("loop", "flip", "swap", "Loop", "loops", "", "lo", "join", None, True, 0, ["loop"], ("loop",), {}):
-        for names in ((), ("p",), ("p", "q"), ("q", "p"), ("p", "p"), ("p", "q", "r"), ("p", None), ("P",), ("",),
-                      ("abcde",), ("abcd",), ("p", "Q"), (["p"],), (("p", "q"),), (1,), (True, "q"), ("p+",), ({}, [])):
-            found.append((kind, *names))
-            found.append([kind, *names])
-    return found + [(("loop", "p"),), ("p", "loop"), ("p", "swap", "q")]
-
-
-def ops_of(names):
-    """All operations with these names, in both orders of swaps."""
-    pairs = itertools.permutations(names, 2)
-    return [(kind, name) for name in names for kind in ("loop", "flip")] + [("swap", *pair) for pair in pairs]
-
-
-def between_in(row, name):
-    low, high = places_in(row, name)
-    return [marker[0] for marker in row[1::2][low + 1:high]]
-
-
-def blockers_in(row, op):
-    """All blockers of an operation, the first that applies first, as point 43 words it."""
-    found = []
-    if op[0] == "flip":
-        return [] if inverted_in(row, op[1]) else [("direct", op[1])]
-    for name in op[1:]:
-        if inverted_in(row, name):
-            found.append(("inverted", name))
-    if op[0] == "loop":
-        return found + [("between", other) for other in between_in(row, op[1])]
-    if not cross_in(row, op[1], op[2]):
-        found.append(("uncrossed", op[1], op[2]))
-    if places_in(row, op[1])[0] > places_in(row, op[2])[0]:
-        found.append(("order", op[1], op[2]))
-    return found
 
 
 def some_rows():
@@ -340,26 +290,11 @@ class Sequences(Case):
                 self.assertEqual(applicable_count(ops=ops, strip=Strip(row)), len(ops))
                 self.assertIs(removes_all(value=ops, strip=Strip(row)), len(strip) == 0)
 
-    def changed(self, rng, ops, names):
-        """Sequences that differ from the given one by one change."""
-        values = any_values() + nearly_ops() + ops_of(names[:4])
-        at = rng.randrange(len(ops) + 1)
-        new = rng.choice(values)
-        found = [ops[:at] + [new] + ops[at:], ops + [new], ops[:at] + ops[at + 1:]]
-        if at < len(ops):
-            other = rng.randrange(len(ops))
-            exchanged = list(ops)
-            exchanged[at], exchanged[other] = ops[other], ops[at]
-            kind, *old = ops[at]
-            found += [exchanged, ops[:at + 1] + ops[at:]]
-            found += [ops[:at] + [item] + ops[at + 1:] for item in (new, list(ops[at]), (kind, *old[::-1]))]
-        return found
-
     def test_one_change(self):
         rng = random.Random(47)
         for row in some_rows():
             ops = complete_run(rng, Strip(row))[-1][0]
-            for changed in self.changed(rng, ops, names_in(row)):
+            for changed in changed_sequences(rng, ops, names_in(row)):
                 count, left = 0, Strip(row)
                 for item in changed:
                     if not looks_like_op(item) or not set(item[1:]) <= set(left.names()):
