@@ -8,6 +8,7 @@ from markersplice.rows import is_name, is_piece
 EMPTY_PIECE = "_"
 RING_START = "("
 RING_END = ")"
+MOST_DIGITS = 30
 
 
 def item_word(item):
@@ -46,3 +47,10 @@ def word_item(word):
     if is_marker_word(word):
         return (word[:-1], word[-1] == "+")
     return "" if word == EMPTY_PIECE else word
+
+
+def is_number_word(word):
+    """Return True if a word writes a number in decimal digits without a leading zero."""
+    if not word.isascii() or not word.isdigit() or len(word) > MOST_DIGITS:
+        return False
+    return word == "0" or word[0] != "0"

@@ -7,11 +7,16 @@ import itertools
 import random
 import unittest
 
+from markersplice.console import Console
 from markersplice.crossings import CrossingTable
-from markersplice.errors import InvalidPiece, InvalidWord, NotApplicable, NothingToUndo
+from markersplice.errors import (
+    DuplicateName, InvalidMarker, InvalidName, InvalidNumber, InvalidPiece, InvalidRow, InvalidUser, InvalidWord,
+    Locked, NotApplicable, NothingToUndo, TooMany, UnknownName, UnknownStrip, Unmatched, Unpaired,
+)
 from markersplice.joining import JoinedStrip
 from markersplice.operations import apply_op, available_ops
 from markersplice.strips import Ring, Strip
+from markersplice.workspace import Workspace
 
 # a and b cross, both enclose c, and d stands apart; a and c are direct, b and d inverted.
 SAMPLE_ROW = (
@@ -45,7 +50,7 @@ def any_values():
         Ring(["a"]), Ring(["", ("p", True)]), [Ring(["a"])], (["a"], [Ring(["a"])]),
         CrossingTable([], []), CrossingTable(["p"], [[1]]), JoinedStrip(Strip(["a"]), []),
         JoinedStrip(Strip(["", ("p", True), "", ("p", True), ""]), ["p"]),
-        InvalidPiece("a"), NotApplicable(("loop", "p"), None), NothingToUndo(),
+        Workspace(["a"]), Console(), InvalidPiece("a"), NotApplicable(("loop", "p"), None), NothingToUndo(),
     ]
 
 
@@ -400,63 +405,264 @@ def changed_sequences(rng, ops, names):
     return found
 
 
-class PlainJoin:
-    """A row joined at names, by a walk from piece end to piece end as point 5 words it.
+class PlainWalk:
+    """Rows under labels, joined at names, by walks from piece end to piece end as point 5 words it.
 
-    Ends are tuples of "left" or "right" and the number of a piece. What the walk finds is kept
-    as paths, rows (of part 0, then readings of the rings), part_of and edges.
+    Pieces are tuples of a label and a number, ends are tuples of "left" or "right" and a piece. What
+    the walks find is kept as paths, rows (a ring's as a reading), and part_of.
     """
 
-    def __init__(self, row, names):
-        self.source = list(row)
-        self.pieces = row[::2]
-        self.markers = row[1::2]
+    def __init__(self, rows, names):
+        self.letters = {(label, number): piece for label, row in rows for number, piece in enumerate(row[::2])}
+        self.markers = [((label, number), (label, number + 1), *marker)
+                        for label, row in rows for number, marker in enumerate(row[1::2])]
         self.next = {}
-        for number, (name, _) in enumerate(self.markers):
+        for marker in self.markers:
+            left, right, name, _ = marker
             if name not in names:
-                self.next["right", number] = (("left", number + 1), number)
-                self.next["left", number + 1] = (("right", number), number)
+                self.next["right", left] = (("left", right), marker)
+                self.next["left", right] = (("right", left), marker)
         for name in names:
-            first, second = places_in(row, name)
+            first, second = [marker for marker in self.markers if marker[2] == name]
             for one, other in ((self.before(first), self.after(second)), (self.before(second), self.after(first))):
                 self.next[one] = (other, None)
                 self.next[other] = (one, None)
         self.paths, self.rows = [], []
         self.part_of = {}
-        for piece in range(len(self.pieces)):
-            if piece not in self.part_of:
-                self.walk(piece)
-        self.edges = {name: tuple(self.part_of[self.before(place)[1]] for place in places_in(row, name))
-                      for name in names_in(row) if name in names}
 
-    def before(self, number):
-        return ("right", number) if self.markers[number][1] else ("left", number + 1)
+    def before(self, marker):
+        return ("right", marker[0]) if marker[3] else ("left", marker[1])
 
-    def after(self, number):
-        return ("left", number + 1) if self.markers[number][1] else ("right", number)
+    def after(self, marker):
+        return ("left", marker[1]) if marker[3] else ("right", marker[0])
 
-    def walk(self, piece):
-        """Walk from the left end of a piece until the part ends or closes."""
+    def walk(self, start):
+        """Walk from an end until the part ends or closes, and return the end at which the walk ends."""
         path, items = [], [""]
-        end = ("left", piece)
+        end = start
         while True:
-            side, number = end
-            path.append((number, side == "right"))
-            self.part_of[number] = len(self.paths)
-            letters = self.pieces[number]
+            side, piece = end
+            path.append((piece, side == "right"))
+            self.part_of[piece] = len(self.paths)
+            letters = self.letters[piece]
             items[-1] += letters if side == "left" else flipped_letters(letters)
-            leaving = ("right" if side == "left" else "left", number)
+            leaving = ("right" if side == "left" else "left", piece)
             if leaving not in self.next:
                 break
             end, marker = self.next[leaving]
             if marker is not None:
-                name, upright = self.markers[marker]
-                items.extend([(name, upright if leaving[0] == "right" else not upright), ""])
-            if end == ("left", piece):
+                items.extend([(marker[2], marker[3] if leaving[0] == "right" else not marker[3]), ""])
+            if end == start:
                 items[0] = items.pop() + items[0] if len(items) > 1 else items[0]
                 break
         self.paths.append(path)
         self.rows.append(items)
+        return leaving
+
+    def walk_rings(self):
+        """Walk along all parts that no walk has reached."""
+        for piece in self.letters:
+            if piece not in self.part_of:
+                self.walk(("left", piece))
+
+
+class PlainJoin:
+    """A row joined at names: the paths and rows of its parts, part_of and edges."""
+
+    def __init__(self, row, names):
+        plain = PlainWalk([("", row)], names)
+        plain.walk(("left", ("", 0)))
+        plain.walk_rings()
+        self.rows = plain.rows
+        self.paths = [[(number, flipped) for (_, number), flipped in path] for path in plain.paths]
+        self.part_of = {number: part for (_, number), part in plain.part_of.items()}
+        self.edges = {name: tuple(plain.part_of[plain.before(marker)[1]] for marker in plain.markers
+                                  if marker[2] == name) for name in names_in(row) if name in names}
+
+
+def row_fault(row):
+    """The error of point 12 for a value, as a tuple of its class and of what it keeps, or None."""
+    if type(row) not in (list, tuple) or len(row) % 2 == 0:
+        return (InvalidRow, row)
+    for index, item in enumerate(row):
+        if index % 2 == 0 and not looks_like_piece(item):
+            return (InvalidPiece, item)
+        if index % 2 == 1 and not looks_like_marker(item):
+            return (InvalidMarker, item)
+    return None
+
+
+class PlainSpace:
+    """A workspace as points 111 to 119 word it. Each answer is worked out from the actions that were done."""
+
+    def __init__(self, users, actions=()):
+        self.users = list(users)
+        self.actions = list(actions)
+
+    def rows(self):
+        return [(action[1], action[2]) for action in self.actions if action[0] == "add"]
+
+    def held(self, words, place):
+        """What was added by the actions with the first word and not removed by later ones with the second."""
+        held = []
+        for action in self.actions:
+            if action[0] in words:
+                held = [item for item in held if item != action[place:]]
+            if action[0] == words[0]:
+                held.append(action[place:])
+        return held
+
+    def joined(self):
+        held = [name for name, in self.held(("join", "unjoin"), 2)]
+        return [name for name in self.names() if name in held]
+
+    def locks(self):
+        held = self.held(("lock", "unlock"), 1)
+        return {user: [piece for piece in self.pieces() if (user, *piece) in held] for user in self.users}
+
+    def pieces(self):
+        return [(label, number) for label, row in self.rows() for number in range(len(row[::2]))]
+
+    def all_names(self):
+        return [name for _, row in self.rows() for name, _ in row[1::2]]
+
+    def names(self):
+        return list(dict.fromkeys(self.all_names()))
+
+    def unmatched(self):
+        return [name for name in self.names() if self.all_names().count(name) == 1]
+
+    def walked(self):
+        """The walks along all parts, and the two ends of each strand."""
+        plain = PlainWalk(self.rows(), self.joined())
+        ends = []
+        for label, row in self.rows():
+            for start in (("left", (label, 0)), ("right", (label, len(row) // 2))):
+                if start not in [end for pair in ends for end in pair]:
+                    ends.append((start, plain.walk(start)))
+        plain.walk_rings()
+        return plain, [tuple((label, 0 if side == "left" else 1) for side, (label, _) in pair) for pair in ends]
+
+    def layout(self):
+        plain, ends = self.walked()
+        strands = [(*pair, row) for pair, row in zip(ends, plain.rows)]
+        return (strands, [Ring(row) for row in plain.rows[len(ends):]])
+
+    def told(self):
+        """All that a workspace tells."""
+        plain, _ = self.walked()
+        return {"users": self.users, "strips": [label for label, _ in self.rows()],
+                "rows": [list(row) for _, row in self.rows()], "names": self.names(), "joined": self.joined(),
+                "unmatched": self.unmatched(), "locks": self.locks(), "layout": self.layout(),
+                "len": len(plain.rows), "parts": [plain.part_of[piece] for piece in self.pieces()],
+                "actions": [("add", action[1], list(action[2])) if action[0] == "add" else action
+                            for action in self.actions]}
+
+    def fault(self, action):
+        """The error that an action raises, as a tuple of its class and of what it keeps, or None."""
+        if action[0] == "add":
+            return self.fault_of_row(action[1], action[2])
+        if action[1] not in self.users:
+            return (InvalidUser, action[1])
+        if action[0] in ("lock", "unlock"):
+            return self.fault_of_piece(*action)
+        return self.fault_of_name(*action)
+
+    def fault_of_row(self, strip, row):
+        if not looks_like_name(strip):
+            return (InvalidName, strip)
+        if row_fault(row) is not None:
+            return row_fault(row)
+        if strip in [label for label, _ in self.rows()]:
+            return (DuplicateName, strip)
+        if len(self.rows()) == 4:
+            return (TooMany, 5)
+        names = self.all_names() + [name for name, _ in row[1::2]]
+        for name, _ in row[1::2]:
+            if names.count(name) > 2:
+                return (Unpaired, name)
+        return (TooMany, len(set(names))) if len(set(names)) > 20 else None
+
+    def fault_of_piece(self, word, user, strip, number):
+        if strip not in [label for label, _ in self.rows()]:
+            return (UnknownStrip, strip)
+        if type(number) is not int or (strip, number) not in self.pieces():
+            return (InvalidNumber, number)
+        if word == "lock":
+            plain, _ = self.walked()
+            return self.fault_of_locks(user, [plain.part_of[strip, number]])
+        return None if (strip, number) in self.locks()[user] else (UnknownName, (strip, number))
+
+    def fault_of_name(self, word, user, name):
+        if word == "unjoin" and name not in self.joined():
+            return (UnknownName, name)
+        if word == "join" and (name not in self.names() or name in self.joined()):
+            return (UnknownName, name)
+        if name in self.unmatched():
+            return (Unmatched, name)
+        plain, _ = self.walked()
+        pieces = [piece for marker in plain.markers if marker[2] == name for piece in marker[:2]]
+        return self.fault_of_locks(user, [plain.part_of[piece] for piece in pieces])
+
+    def fault_of_locks(self, user, parts):
+        plain, _ = self.walked()
+        locks = self.locks()
+        for other in self.users:
+            if other != user and any(plain.part_of[piece] in parts for piece in locks[other]):
+                return (Locked, other)
+        return None
+
+    def perform(self, action):
+        """Do an action that raises no error and return what its method returns."""
+        before = len(self.walked()[0].rows)
+        self.actions.append(action)
+        return len(self.walked()[0].rows) - before if action[0] in ("join", "unjoin") else None
+
+
+def space_told(space):
+    """All that a workspace tells, in the form of PlainSpace."""
+    rows = [space.row_of(strip) for strip in space.strips()]
+    parts = [space.part_of(strip, number) for strip in space.strips() for number in range(len(space.row_of(strip)[::2]))]
+    return {"users": space.users(), "strips": space.strips(), "rows": rows, "names": space.names(),
+            "joined": space.joined(), "unmatched": space.unmatched(), "locks": space.locks(), "layout": space.layout(),
+            "len": len(space), "parts": parts, "actions": space.actions()}
+
+
+def sample_actions(rng, users, total, wrong=0.1):
+    """So many actions, most of which a workspace with these users accepts one after another.
+
+    The rows have names that occur once or twice, also in two strips.
+    """
+    plain = PlainSpace(users)
+    for _ in range(total):
+        action = sample_action(rng, plain)
+        while plain.fault(action) is not None and rng.random() >= wrong:
+            action = sample_action(rng, plain)
+        if plain.fault(action) is None:
+            plain.perform(action)
+        yield action
+
+
+def sample_action(rng, plain):
+    """An action that fits a workspace, or nearly."""
+    word = rng.choice(["add", "lock", "unlock", "join", "join", "unjoin"] if plain.rows() else ["add"])
+    labels = [label for label, _ in plain.rows()]
+    if word == "add":
+        free = [name for name in name_list(16) if plain.all_names().count(name) < 2]
+        names = rng.sample(free, min(len(free), rng.randrange(5))) * rng.choice((1, 1, 2))
+        rng.shuffle(names)
+        row = [sample_piece(rng, 2)]
+        for name in names:
+            row.extend([(name, rng.random() < 0.6), sample_piece(rng, 2)])
+        return ("add", rng.choice(["s", "t", "loop", "add", "u", "p"]), row)
+    user = rng.choice(plain.users)
+    if word in ("lock", "unlock"):
+        held = plain.locks()[user]
+        if word == "unlock" and held and rng.random() < 0.7:
+            return (word, user, *rng.choice(held))
+        label, row = rng.choice(plain.rows())
+        return (word, user, label, rng.randrange(len(row[::2])))
+    return (word, user, rng.choice(plain.names() + ["yyy"] + labels[:1]))
 
 
 def first_kept(plain):

@@ -67,6 +67,31 @@ INTERFACE = {
     "kinds": {
         "suffices": "strip kinds", "kinds_certificate": "strip kinds", "is_kinds_certificate": "strip kinds value",
     },
+    "scramble": {
+        "scramble": "segments order flips spacers names", "contains": "part piece",
+        "insert_loop": "strip name positions * piece upright", "insert_flip": "strip name positions * upright",
+        "insert_swap": "strip one other positions * orientations",
+    },
+    "workspace": {
+        "Workspace.__init__": "self users", "Workspace.add_strip": "self strip row",
+        "Workspace.lock": "self user strip number", "Workspace.unlock": "self user strip number",
+        "Workspace.join": "self user name", "Workspace.unjoin": "self user name", "Workspace.undo": "self",
+        "Workspace.perform": "self action", "Workspace.actions": "self", "Workspace.layout": "self",
+        "Workspace.__len__": "self", "Workspace.users": "self", "Workspace.strips": "self",
+        "Workspace.names": "self", "Workspace.joined": "self", "Workspace.unmatched": "self",
+        "Workspace.row_of": "self strip", "Workspace.locks": "self", "Workspace.part_of": "self strip number",
+        "Workspace.clone": "self", "Workspace.__eq__": "self other", "Workspace.__str__": "self",
+        "Workspace.__repr__": "self",
+    },
+    "history": {
+        "dump_history": "workspace", "load_history": "text", "state_after": "workspace total",
+        "can_exchange": "workspace number", "shortest_actions": "workspace",
+    },
+    "console": {
+        "Console.__init__": "self", "Console.run": "self line", "Console.run_all": "self lines",
+        "Console.strip": "self", "Console.rings": "self", "Console.workspace": "self", "Console.clone": "self",
+        "Console.__len__": "self",
+    },
 }
 
 
