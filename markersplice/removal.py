@@ -44,7 +44,7 @@ def removable_sets(strip):
     check_strip(strip)
     names = strip.names()
     found = [_numbers_in(removed, len(names)) for removed in larger_sets(strip)]
-    found = sorted(found, key=lambda numbers: (len(numbers), numbers))
+    found = sorted(found, key=lambda chosen: (len(chosen), chosen))
     return [tuple([names[number] for number in numbers]) for numbers in found]
 
 

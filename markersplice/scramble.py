@@ -7,8 +7,8 @@ from markersplice.errors import (
 from markersplice.rows import concatenated, flip_piece, flip_row, is_integer, is_marker, is_piece
 from markersplice.strips import MOST_NAMES, Ring, Strip
 
-# So many segments have a name between any two of them.
-MOST_SEGMENTS = MOST_NAMES + 1
+# One more than a strip has names, as there is a name between any two neighbors.
+MOST_SEGMENTS = 13
 
 
 def scramble(segments, order, flips, spacers, names):

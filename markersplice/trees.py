@@ -31,9 +31,11 @@ def must_loop(strip, name):
 def loop_sets(strip):
     """Return all loop sets, each as the list of its names."""
     ends = edges(strip)
-    total = _part_count(strip)
-    return [list(names) for names in combinations(strip.names(), len(join_all(strip)))
-            if is_tree([ends[name] for name in names], total)]
+    names = list(ends)
+    final = join_all(strip)
+    # A tree has as many names as there are rings.
+    return [list(chosen) for chosen in combinations(names, len(final))
+            if is_tree([ends[name] for name in chosen], len(final) + 1)]
 
 
 def loop_set_count(strip):

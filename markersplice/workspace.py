@@ -198,7 +198,7 @@ class Workspace:
 
     def _check_markers(self, row):
         """Raise the error of a row that would give the workspace too many markers or names."""
-        counts = _marker_counts([*self._rows.values(), row])
+        counts = _marker_counts(list(self._rows.values()) + [row])
         for name in places_by_name(row):
             if counts[name] > 2:
                 raise Unpaired(name)
@@ -223,7 +223,7 @@ class Workspace:
         return isinstance(other, Workspace) and self._told() == other._told()
 
     def __str__(self):
-        return " ".join(["workspace of", *self._users, "with", *self._rows])
+        return " ".join(["workspace of", *self._users, "with", *self.strips()])
 
     def __repr__(self):
         return f"Workspace({str(self)})"

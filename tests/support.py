@@ -622,7 +622,8 @@ class PlainSpace:
 def space_told(space):
     """All that a workspace tells, in the form of PlainSpace."""
     rows = [space.row_of(strip) for strip in space.strips()]
-    parts = [space.part_of(strip, number) for strip in space.strips() for number in range(len(space.row_of(strip)[::2]))]
+    parts = [space.part_of(strip, number)
+             for strip, row in zip(space.strips(), rows) for number in range(len(row[::2]))]
     return {"users": space.users(), "strips": space.strips(), "rows": rows, "names": space.names(),
             "joined": space.joined(), "unmatched": space.unmatched(), "locks": space.locks(), "layout": space.layout(),
             "len": len(space), "parts": parts, "actions": space.actions()}

@@ -199,7 +199,8 @@ class PlainConsole:
             return dump_history(space).replace("\n", " / ")
         if word == "layout":
             strands, rings = space.layout()
-            return grouped([(*one, *other, *map(item_text, row)) for one, other, row in strands] + list(map(str, rings)))
+            groups = [(*one, *other, *map(item_text, row)) for one, other, row in strands]
+            return grouped(groups + list(map(str, rings)))
         return listed(getattr(space, word)())
 
 
@@ -443,8 +444,9 @@ class Queries(ConsoleCase):
         console = self.console("strip _ p+ _ q+ _ r+ _ r+ _ q+ _ p+ _")
         self.assert_outputs(console, [
             ("makes q 1", "blocked cut 2 3"), ("makes r 1", "blocked beside 2 3"), ("makes p 3", "blocked beside 0 1"),
-            ("makes q 2", "set p q r"), ("tree q p", "blocked unreached 3"), ("tree r q p", "operations loop r loop q loop p"),
-            ("kinds loop", "operations loop r loop q loop p"), ("counts", "3 1"), ("loops", "p q r")])
+            ("makes q 2", "set p q r"), ("tree q p", "blocked unreached 3"),
+            ("tree r q p", "operations loop r loop q loop p"), ("counts", "3 1"),
+            ("kinds loop", "operations loop r loop q loop p"), ("loops", "p q r")])
         console = self.console("strip a p+ b q+ c p+ d q+ e")
         self.assert_outputs(console, [("loops", "-"), ("count_loops", "1"), ("tree", "operations swap p q"),
                                       ("kinds swap", "operations swap p q"), ("result q p", "adcbe")])
@@ -458,9 +460,9 @@ class Queries(ConsoleCase):
                 ("result p y z", UnknownName, {"value": "y"}), ("removable q q", InvalidNames, {"value": ["q", "q"]}),
                 ("removable z", UnknownName, {"value": "z"}), ("tree z", UnknownName, {"value": "z"}),
                 ("makes z 0", UnknownName, {"value": "z"}), ("makes p 0", UnknownPart, {"value": 0}),
-                ("makes p 1", UnknownPart, {"value": 1}), ("kinds loop loop", InvalidKinds, {"value": ["loop", "loop"]}),
-                ("kinds Loop", InvalidKinds, {"value": ["Loop"]}), ("kinds loop 7 x+", InvalidKinds,
-                                                                  {"value": ["loop", "7", "x+"]})):
+                ("makes p 1", UnknownPart, {"value": 1}), ("kinds Loop", InvalidKinds, {"value": ["Loop"]}),
+                ("kinds loop loop", InvalidKinds, {"value": ["loop", "loop"]}),
+                ("kinds loop 7 x+", InvalidKinds, {"value": ["loop", "7", "x+"]})):
             self.assertEqual(outcome(console.run, line), (error, attributes))
             self.assertEqual(console_told(console), before)
 
@@ -493,9 +495,10 @@ class Spaces(ConsoleCase):
             ("add s p+ a", "InvalidWord", 0), ("add s _", "DuplicateName", "s"), ("add t _ p+ _", "Unpaired", "p"),
             ("lock dan s 0", "InvalidUser", "dan"), ("lock ann t 0", "UnknownStrip", "t"),
             ("lock ann s 9", "InvalidNumber", 9), ("lock ann s 0", "Locked", "bob"),
-            ("unlock ann s 0", "UnknownName", ("s", 0)), ("join ann p", "Locked", "bob"), ("join ann q", "Unmatched", "q"),
-            ("join ann z", "UnknownName", "z"), ("unjoin ann p", "UnknownName", "p"), ("locks dan", "InvalidUser", "dan"),
-            ("load x", "InvalidStep", 0), ("load users a / add s", "InvalidStep", 1), ("load users a /", "InvalidStep", 0),
+            ("unlock ann s 0", "UnknownName", ("s", 0)), ("join ann p", "Locked", "bob"),
+            ("join ann q", "Unmatched", "q"), ("join ann z", "UnknownName", "z"), ("unjoin ann p", "UnknownName", "p"),
+            ("locks dan", "InvalidUser", "dan"), ("load x", "InvalidStep", 0),
+            ("load users a / add s", "InvalidStep", 1), ("load users a /", "InvalidStep", 0),
             ("load users a / add s _ / join a p", "InvalidStep", 2), ("load users a / / add s _", "InvalidStep", 1),
         ]
         for line, error, kept in cases:
@@ -513,11 +516,13 @@ class Spaces(ConsoleCase):
         self.assertEqual(other.run("load " + log), "ok")
         self.assertEqual(space_told(other.workspace()), space_told(console.workspace()))
         self.assertEqual(log.replace(" / ", "\n"), dump_history(console.workspace()))
-        self.assert_outputs(other, [("undo", "ok"), ("undo", "ok"), ("locks bob", "s 1"), ("load users a", "ok"), ("log", "users a")])
+        self.assert_outputs(other, [("undo", "ok"), ("undo", "ok"), ("locks bob", "s 1"), ("load users a", "ok"),
+                                    ("log", "users a")])
 
     def test_separators_of_a_history(self):
-        for text in ("users a / add s _ / join a p", "/", "users a /", "/ users a", "users a / / add s _", "users a // add s _",
-                     "users a / / / add s _", "users a/add s _", "users a / add s _ /", "users a / /"):
+        for text in ("users a / add s _ / join a p", "/", "users a /", "/ users a", "users a / / add s _",
+                     "users a // add s _", "users a / / / add s _", "users a/add s _", "users a / add s _ /",
+                     "users a / /"):
             found = outcome(Console().run, "load " + text)
             lines = "\n".join(text.split(" / "))
             expected = outcome(load_history, lines)
@@ -584,11 +589,13 @@ class Runs(ConsoleCase):
             self.assertEqual(len(console), before["back"] + 40)
 
     def test_each_command_fails_in_turn(self):
-        lines = ["strip a p+ b p+ c", "flip", "users ann bob", "add s _ p+ _ p+ _", "join bob p", "apply loop p", "back", "undo"]
+        lines = ["strip a p+ b p+ c", "flip", "users ann bob", "add s _ p+ _ p+ _", "join bob p", "apply loop p",
+                 "back", "undo"]
         console = self.console("strip q", "add s _", "flip")
         before = console_told(console)
         for at in range(len(lines) + 1):
-            for wrong, error in (("wrong", InvalidLine), ("apply loop z", UnknownName), ("join dan p", InvalidUser), (None, InvalidLine)):
+            for wrong, error in (("wrong", InvalidLine), ("apply loop z", UnknownName), ("join dan p", InvalidUser),
+                                 (None, InvalidLine)):
                 given = lines[:at] + [wrong] + lines[at:]
                 with self.assertRaises(error) as caught:
                     console.run_all(given)

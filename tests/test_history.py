@@ -173,7 +173,8 @@ class Reading(HistoryCase):
             exchanged[at], exchanged[other] = lines[other], lines[at]
             found += ["\n".join(changed) for changed in (
                 lines[:at] + lines[at + 1:], lines[:at + 1] + lines[at:], exchanged, lines[:at] + [""] + lines[at:],
-                lines[:at] + lines[at + 1:] + lines[at:at + 1], lines[:at] + [lines[at].replace(" ", "\n", 1)] + lines[at + 1:])]
+                lines[:at] + lines[at + 1:] + lines[at:at + 1],
+                lines[:at] + [lines[at].replace(" ", "\n", 1)] + lines[at + 1:])]
         return found
 
     def changed_words(self, rng, text):
@@ -206,7 +207,8 @@ class Reading(HistoryCase):
                      "lock ann s 00", "lock ann s 01", "lock ann s +1", "lock ann s -0", "lock ann s", "lock ann s 1 1",
                      "lock dan s 1", "lock ann t 0", "unlock ann s 0", "join ann q", "join ann p p", "join ann", "join",
                      "unjoin ann p", "undo", "users ann", "perform join ann p", "Join ann p", "join  ann p",
-                     "join ann p ", " join ann p", "lock ann s 1.0", "lock ann s " + "9" * 5000, "add t " + "a" * 5000 + " "):
+                     "join ann p ", " join ann p", "lock ann s 1.0", "lock ann s " + "9" * 5000,
+                     "add t " + "a" * 5000 + " "):
             for rest in ("", "\nwrong", "\njoin ann p"):
                 self.assert_step(2, start + "\n" + line + rest)
         self.assert_step(3, start + "\njoin ann p\njoin bob p\nwrong")
@@ -313,12 +315,13 @@ class Exchanging(HistoryCase):
 
     def test_chosen_cases(self):
         start = "users ann bob\nadd s a p+ b p+ c q+ d q+ e\n"
-        for lines, number, expected in (("join ann p\njoin bob q", 1, True), ("join ann p\njoin bob q", 0, False),
-                                        ("lock ann s 0\nlock ann s 0", 1, True), ("join ann p\nlock bob s 0", 1, False),
-                                        ("join ann p\nunjoin ann p", 1, False), ("lock ann s 0\nunlock ann s 0", 1, False),
-                                        ("join ann p\nlock ann s 0", 1, True), ("add t _\nadd u _", 1, False),
-                                        ("join ann p\nadd u _", 1, True), ("lock ann s 0\nunlock ann s 0\nlock ann s 0", 2, False),
-                                        ("lock ann s 0\nlock ann s 0\nunlock ann s 0", 2, False)):
+        cases = [("join ann p\njoin bob q", 1, True), ("join ann p\njoin bob q", 0, False),
+                 ("lock ann s 0\nlock ann s 0", 1, True), ("join ann p\nlock bob s 0", 1, False),
+                 ("join ann p\nunjoin ann p", 1, False), ("lock ann s 0\nunlock ann s 0", 1, False),
+                 ("join ann p\nlock ann s 0", 1, True), ("add t _\nadd u _", 1, False),
+                 ("join ann p\nadd u _", 1, True), ("lock ann s 0\nunlock ann s 0\nlock ann s 0", 2, False),
+                 ("lock ann s 0\nlock ann s 0\nunlock ann s 0", 2, False)]
+        for lines, number, expected in cases:
             self.assertIs(can_exchange(load_history(start + lines), number), expected, lines)
 
     def test_joins_and_unjoins_at_different_names(self):
@@ -337,7 +340,8 @@ class Exchanging(HistoryCase):
                     self.assertIs(can_exchange(new, number), True)
 
     def test_wrong_numbers(self):
-        for lines, last in (("", -1), ("\nadd s _", -1), ("\nadd s _\nadd t _", 0), ("\nadd s _\nadd t _\nlock a s 0", 1)):
+        for lines, last in (("", -1), ("\nadd s _", -1), ("\nadd s _\nadd t _", 0),
+                            ("\nadd s _\nadd t _\nlock a s 0", 1)):
             space = load_history("users a" + lines)
             for value in any_values() + [last + 1, last + 2, -1, -2, [0], "0"]:
                 if type(value) is not int or not 0 <= value <= last:

@@ -16,6 +16,8 @@ P = ("p", True)
 Q = ("q", True)
 KINDS = ("loop", "flip", "swap")
 CROSSING = ["a", P, "b", Q, "c", P, "d", Q, "e"]
+# One component of direct names stands within the other.
+TWO_GROUPS = ["", P, "", Q, "", ("b", True), "", ("a", True), "", ("b", True), "", ("a", True), "", P, "", Q, ""]
 
 
 def all_kinds():
@@ -75,12 +77,24 @@ def shows(row, kinds, value):
 
 
 def some_rows():
-    return small_rows() + mixed_strip_rows()[::2] + sample_strip_rows()[::6]
+    return [TWO_GROUPS] + rows_of_three()[::7] + small_rows() + mixed_strip_rows()[::2] + sample_strip_rows()[::6]
 
 
 def clear_rows():
     """Rows without a component of two or more direct names."""
-    return [row for row in mixed_strip_rows() + sample_strip_rows() if not groups_in(row)]
+    return [row for row in mixed_strip_rows() + sample_strip_rows() + rows_of_three() if not groups_in(row)]
+
+
+def rows_of_three():
+    """Rows with three names, in every order and with each choice of the inverted ones."""
+    rows = []
+    for order in sorted(set(itertools.permutations("ppqqrr"))):
+        for turned in itertools.product((True, False), repeat=3):
+            row = [""]
+            for index, name in enumerate(order):
+                row.extend([(name, name not in order[:index] or turned["pqr".index(name)]), ""])
+            rows.append(row)
+    return rows
 
 
 class Sufficient(Case):

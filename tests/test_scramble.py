@@ -18,7 +18,8 @@ from support import (
 )
 
 P = ("p", True)
-SEGMENTS, ORDER, FLIPS, SPACERS, NAMES = ["ab", "c", "De"], [2, 0, 1], [True, False, False], ["", "x", "", "Y"], ["q", "p"]
+SEGMENTS, ORDER, FLIPS = ["ab", "c", "De"], [2, 0, 1], [True, False, False]
+SPACERS, NAMES = ["", "x", "", "Y"], ["q", "p"]
 
 
 def flat(items):
@@ -192,8 +193,7 @@ class Containing(Case):
     """Point 103."""
 
     def test_the_example(self):
-        self.assertEqual([contains(Ring(["abc"]), "ca"), contains(Ring(["abc"]), "BA"), contains(Ring(["abc"]), "abca")],
-                         [True, True, False])
+        self.assertEqual([contains(Ring(["abc"]), piece) for piece in ("ca", "BA", "abca")], [True, True, False])
 
     def test_every_short_piece(self):
         rng = random.Random(103)
@@ -287,7 +287,8 @@ class Inserting(Case):
                         self.assertIs(type(strip), Strip)
                         self.assertEqual(strip.row(), expected)
                         self.assertEqual(apply_op(strip, ("loop", "new")), (Strip(row), Ring([piece])))
-                    strip = insert_loop(upright=upright, piece=piece, positions=[position], name="new", strip=Strip(row))
+                    strip = insert_loop(upright=upright, piece=piece, positions=[position], name="new",
+                                        strip=Strip(row))
                     self.assertEqual(strip.row(), expected)
                 default = insert_loop(Strip(row), "new", [position])
                 self.assertEqual(default, insert_loop(Strip(row), "new", [position], piece="", upright=True))
@@ -445,8 +446,9 @@ class InsertionErrors(Case):
 
     def test_wrong_positions(self):
         row = ["abc", P, "", P, "d"]
-        wrong = [(3, 0), (-1, 0), (0, 4), (0, -1), (1, 1), (2, 2), (True, 0), (0, True), (False, False), [0, 0], (0,),
-                 (0, 0, 0), ("0", 0), (0, "0"), (None, 0), ((0,), 0), 0, "00", {0: 0}, (10 ** 29, 0), (0, 10 ** 29)]
+        wrong = [(3, 0), (-1, 0), (0, 4), (0, -1), (1, -1), (2, -1), (1, 1), (2, 2), (True, 0), (0, True),
+                 (False, False), [0, 0], (0,), (0, 0, 0), ("0", 0), (0, "0"), (None, 0), ((0,), 0), 0, "00", {0: 0},
+                 (10 ** 29, 0), (0, 10 ** 29)]
         right = all_positions(row)
         for total, call in self.calls():
             for value in any_values() + wrong:

@@ -6,6 +6,7 @@ import random
 from markersplice.errors import InvalidNames, InvalidStrip, UnknownName, UnknownPart
 from markersplice.joining import edges, join_all
 from markersplice.strips import Strip
+from markersplice.texts import parse_row
 from markersplice.trees import (
     can_loop, can_make_ring, is_loop_certificate, is_ring_certificate, loop_certificate, loop_set_count, loop_sets,
     must_loop, ring_certificate,
@@ -149,7 +150,8 @@ def ring_rows():
             for name in order:
                 row.extend([(name, rng.randrange(9) > 0 or name not in order[:len(row) // 2]), ""])
             rows.append(row)
-    return rows
+    # In the last one, the ring 1 cuts off the parts 3 and, behind it, 2.
+    return rows + [parse_row("_ q+ _ zz+ _ b+ _ a- _ zz- _ b- _ a+ _ q+ _")]
 
 
 def looped_by(ops):
@@ -505,7 +507,7 @@ class Rings(Case):
         if value[0] == "set":
             found += [("set", names) for names in changed_lists(rng, value[1], graph.names)]
         details = [rng.sample(parts, rng.randrange(min(5, len(parts)))) for _ in range(8)]
-        details += [list(range(start, graph.total)) for start in range(3)]
+        details += [list(range(start, graph.total)) for start in range(3)] + [[part, part] for part in parts]
         if isinstance(value[-1], list) and value[0] == "blocked":
             details += changed_lists(rng, value[2], parts)
         reasons = ("beside", "cut", "within", "unreached")

@@ -130,7 +130,8 @@ class Adding(SpaceCase):
     def test_names_that_occur_too_often(self):
         space = two_strips()
         space.join("ann", "p")
-        for row, first in ((["", P, ""], "p"), (["", Q, "", Q, ""], "q"), (["", ("r", True), "", Q, "", P, "", Q, ""], "q"),
+        for row, first in ((["", P, ""], "p"), (["", Q, "", Q, ""], "q"),
+                           (["", ("r", True), "", Q, "", P, "", Q, ""], "q"),
                            (["", ("r", True), "", ("r", True), "", ("r", False), ""], "r"),
                            (["", Q, "", ("r", True), "", P, "", ("r", True), "", ("r", True), ""], "r")):
             self.assert_raises(Unpaired, first, space.add_strip, "u", row)
@@ -166,9 +167,11 @@ class Adding(SpaceCase):
                 else:
                     space.add_strip("u", row)
                 # A name that is too often comes first.
-                self.assert_raises(Unpaired, names[0], space.add_strip, "v", ["", ("zz", True), "", (names[0], True), ""])
+                row = ["", ("zz", True), "", (names[0], True), ""]
+                self.assert_raises(Unpaired, names[0], space.add_strip, "v", row)
         space = Workspace(["a"])
-        self.assert_total(TooMany, 25, space.add_strip, "s", [""] + [item for name in names for item in ((name, True), "")])
+        row = [""] + [item for name in names for item in ((name, True), "")]
+        self.assert_total(TooMany, 25, space.add_strip, "s", row)
 
     def test_the_order_of_the_errors(self):
         space = two_strips()
@@ -239,7 +242,8 @@ class Layouts(SpaceCase):
         self.assertEqual([space.unjoin("a", "p"), len(space)], [-1, 2])
 
     def test_rings_in_the_order_of_their_first_pieces(self):
-        space = space_of(["a"], [("add", "t", ["", P, "x", P, "", Q, "b", Q, ""]), ("add", "s", ["", ("r", True), "a", ("r", True), ""])])
+        space = space_of(["a"], [("add", "t", ["", P, "x", P, "", Q, "b", Q, ""]),
+                                 ("add", "s", ["", ("r", True), "a", ("r", True), ""])])
         for name in "rqp":
             space.join("a", name)
         self.assertEqual(space.layout()[1], [Ring(["x"]), Ring(["b"]), Ring(["a"])])
@@ -635,8 +639,9 @@ class Equality(SpaceCase):
                    ("lock", "bob", "s", 0)]
         space = space_of(USERS, actions)
         self.assert_equality(space, space_of(USERS, actions), True)
-        others = [space_of(["bob", "ann", "c"], actions), space_of(["ann", "bob"], actions), space_of(USERS, actions[:-1]),
-                  space_of(USERS, actions[:2] + actions[3:]), space_of(USERS, [actions[1], actions[0], *actions[2:]]),
+        others = [space_of(["bob", "ann", "c"], actions), space_of(["ann", "bob"], actions),
+                  space_of(USERS, actions[:-1]), space_of(USERS, actions[:2] + actions[3:]),
+                  space_of(USERS, [actions[1], actions[0], *actions[2:]]),
                   space_of(USERS, actions + [("lock", "bob", "s", 0), ("lock", "bob", "t", 2)]),
                   space_of(USERS, actions[:-1] + [("lock", "ann", "s", 0)]),
                   space_of(USERS, actions[:-1] + [("lock", "bob", "t", 3)]),
