@@ -74,10 +74,11 @@ def first_names(strip):
 def last_names(strip):
     """Return the names that occur in the last operation of some complete sequence."""
     check_strip(strip)
-    names = strip.names()
+    bare = bare_strip(strip)
+    names = bare.names()
     last = []
     for group in [(name,) for name in names] + list(combinations(names, 2)):
-        joined = JoinedStrip(strip, [name for name in names if name not in group])
+        joined = JoinedStrip(bare, [name for name in names if name not in group])
         if _rings_are_bare(joined):
             ops = [op for op in available_ops(joined.remaining()) if len(op_names(op)) == len(group)]
             last.extend([name for op in ops for name in op_names(op)])

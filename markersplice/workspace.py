@@ -19,8 +19,8 @@ ACTION_ITEMS = {"add": 2, "lock": 3, "unlock": 3, "join": 2, "unjoin": 2}
 class Workspace:
     """Strips under labels, the names at which they are joined, and the pieces that users have locked.
 
-    What it holds at one time is kept in three values that never change: an action replaces
-    them and keeps the old ones, so that it can be undone.
+    What it holds at one time is kept in lists and dicts that never change: an action puts
+    others in their place and keeps the old ones, so that it can be undone.
     """
 
     def __init__(self, users):
